@@ -1,0 +1,1 @@
+"""Evenhall: a house of accounts."""
