@@ -16,6 +16,23 @@ FUNCTIONS = {
         "is_amount": ["thing"], "is_currency": ["thing"], "amount_text": ["amount", "places"],
         "amount_of": ["word", "places"],
     },
+    "evenhall.shares": {"rounded": ["number", "by"], "shared": ["amount", "weights"]},
+    "evenhall.paths": {"names_of": ["path"], "path_of": ["names"], "above": ["path"], "is_within": ["path", "other"]},
+    "evenhall.chains": {
+        "chain": ["rates", "one", "other", "day"], "rate": ["rates", "one", "other", "day"],
+        "converted": ["rates", "amount", "one", "other", "day"],
+    },
+}
+
+CLASSES = {
+    "evenhall.chart": {"Chart": {
+        "add_top": ["name", "kind"], "add": ["path", "currency", "day"], "shut": ["path", "day"], "has": ["path"],
+        "kind_of": ["path"], "currency_of": ["path"], "span_of": ["path"], "is_open": ["path", "day"],
+        "beneath": ["path"], "accounts": [],
+    }},
+    "evenhall.rates": {"Rates": {
+        "quote": ["day", "one", "p", "other", "q"], "newest": ["one", "other", "day"], "currencies": [], "quotes": [],
+    }},
 }
 
 
@@ -25,6 +42,14 @@ class Interface(unittest.TestCase):
             for name, arguments in functions.items():
                 function = getattr(importlib.import_module(module), name)
                 self.assertEqual(list(inspect.signature(function).parameters), arguments, name)
+
+    def test_classes_are_made_of_nothing_and_have_their_methods(self):
+        for module, classes in CLASSES.items():
+            for name, methods in classes.items():
+                made = getattr(importlib.import_module(module), name)()
+                for method, arguments in methods.items():
+                    told = list(inspect.signature(getattr(made, method)).parameters)
+                    self.assertEqual(told, arguments, (name, method))
 
 
 if __name__ == "__main__":

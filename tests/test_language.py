@@ -2,6 +2,7 @@
 
 import ast
 import builtins
+import functools
 import pathlib
 import re
 import unittest
@@ -22,6 +23,16 @@ METHODS = set("""append clear copy count endswith extend find get index insert i
 DUNDERS = {"__init__", "__eq__", "__repr__", "__str__", "__len__"}
 WORDS_OUT = set("""type typing typing_extensions enum Enum IntEnum StrEnum Flag IntFlag Generic Protocol ABC ABCMeta
     namedtuple NamedTuple TypedDict TYPE_CHECKING abstractmethod""".split())
+# The parts in the document's order: each one stands on those ahead of it alone.
+PARTS = """errors words days money shares paths chart rates chains bookings journal deeds sums statements reports views
+    seals closing budgets watch standing running orders house doing asking shell keeps""".split()
+WALKED = {"zip", "enumerate", "reversed", "range"}
+VIEWS = {"items", "keys", "values"}
+WALKERS = {"list", "tuple", "dict", "sorted", "sum", "any", "all", "enumerate", "zip", "min", "max"}
+KEYWORDS = {"sorted": {"key", "reverse"}, "min": {"key", "default"}, "max": {"key", "default"}, "sum": {"start"},
+            "enumerate": {"start"}, "zip": {"strict"}}
+VALUES_ALLOWED = {"count", "index", "title", "find", "get", "join", "lower", "upper", "split", "strip", "copy", "add"}
+OF_PYTHONS_VALUES = {name for kind in (str, int, list, dict, set, bytes, tuple) for name in dir(kind)}
 NAMES_OUT = {"register", "mro", "elements", "open", "input", "version_info", "with_traceback", "add_note", "format",
              "format_map"}
 
@@ -30,10 +41,12 @@ def files():
     return sorted(PACKAGE.rglob("*.py"))
 
 
+@functools.cache
 def trees():
     return [(path.name, ast.parse(path.read_text("utf-8"))) for path in files()]
 
 
+@functools.cache
 def nodes():
     return [(name, node) for name, tree in trees() for node in ast.walk(tree)]
 
@@ -42,6 +55,7 @@ def is_docstring(tree, node):
     return bool(tree.body) and node is tree.body[0] and isinstance(node.value, ast.Constant)
 
 
+@functools.cache
 def bound_names():
     """All names that the package's files bind, but for those of Python's own."""
     found = set()
@@ -59,9 +73,32 @@ def bound_names():
     return found
 
 
+@functools.cache
 def own_methods():
     return {node.name for _, owner in nodes() if isinstance(owner, ast.ClassDef) for node in owner.body
             if isinstance(node, ast.FunctionDef)}
+
+
+@functools.cache
+def own_values():
+    """The names of the values that objects are given."""
+    return {node.attr for _, node in nodes() if isinstance(node, ast.Attribute) and isinstance(node.ctx, ast.Store)}
+
+
+@functools.cache
+def class_names():
+    return {node.name for _, node in nodes() if isinstance(node, ast.ClassDef)}
+
+
+def calls_of(name):
+    return [(where, node) for where, node in nodes() if isinstance(node, ast.Call)
+            and isinstance(node.func, ast.Name) and node.func.id == name]
+
+
+@functools.cache
+def with_parents():
+    """Each node of each file with the one that it stands in."""
+    return [(name, node, child) for name, node in nodes() for child in ast.iter_child_nodes(node)]
 
 
 class Files(unittest.TestCase):
@@ -109,6 +146,36 @@ class Imports(unittest.TestCase):
             draws = {name: drawn - set(free) for name, drawn in draws.items() if name not in free}
 
 
+    def test_parts_stand_on_those_ahead_of_them(self):
+        for name, tree in trees():
+            part = name[:-3]
+            if part == "__init__":
+                continue
+            self.assertIn(part, PARTS)
+            for node in tree.body:
+                if isinstance(node, ast.ImportFrom):
+                    self.assertIn(node.module.split(".")[1], PARTS[:PARTS.index(part)], name)
+
+    def test_from_the_very_file_that_defines_the_name(self):
+        defined = {}
+        for name, tree in trees():
+            own = [node.name for node in tree.body if isinstance(node, (ast.FunctionDef, ast.ClassDef))]
+            own.extend(node.targets[0].id for node in tree.body if isinstance(node, ast.Assign))
+            defined[name[:-3]] = own
+        for name, tree in trees():
+            for node in tree.body:
+                if isinstance(node, ast.ImportFrom):
+                    for alias in node.names:
+                        self.assertIn(alias.name, defined[node.module.split(".")[1]], name)
+
+    def test_all_that_is_drawn_is_used(self):
+        for name, tree in trees():
+            read = {node.id for node in ast.walk(tree) if isinstance(node, ast.Name)}
+            for node in tree.body:
+                if isinstance(node, ast.ImportFrom):
+                    self.assertEqual([alias.name for alias in node.names if alias.name not in read], [], name)
+
+
 class Forms(unittest.TestCase):
     def test_the_top_of_each_file(self):
         for name, tree in trees():
@@ -119,13 +186,28 @@ class Forms(unittest.TestCase):
                     self.assertTrue(is_docstring(tree, node), name)
                 elif isinstance(node, ast.Assign):
                     self.assertIsInstance(node.targets[0], ast.Name, name)
-                    ast.literal_eval(node.value)
+                    self.need_plain(node.value, bound, name)
                     bound.append(node.targets[0].id)
                 elif isinstance(node, ast.ImportFrom):
                     bound.extend(alias.name for alias in node.names)
                 else:
                     bound.append(node.name)
             self.assertEqual(len(bound), len(set(bound)), name)
+
+    def need_plain(self, value, bound, name, deep=False):
+        """A plain value, or a list, tuple or dict of such and of what stands above; no list or dict within another."""
+        if isinstance(value, (ast.List, ast.Dict)):
+            self.assertFalse(deep, name)
+        if isinstance(value, (ast.List, ast.Tuple)):
+            for part in value.elts:
+                self.need_plain(part, bound, name, True)
+        elif isinstance(value, ast.Dict):
+            for part in value.keys + value.values:
+                self.need_plain(part, bound, name, True)
+        elif isinstance(value, ast.Name):
+            self.assertTrue(deep and value.id in bound, (name, value.id))
+        else:
+            ast.literal_eval(value)
 
     def test_statements_and_expressions(self):
         for name, tree in trees():
@@ -163,6 +245,17 @@ class Forms(unittest.TestCase):
             for op, side in zip(node.ops, node.comparators):
                 if isinstance(op, (ast.Is, ast.IsNot)):
                     self.assertTrue(isinstance(side, ast.Constant) and side.value in (None, True, False), where)
+        elif isinstance(node, ast.FormattedValue):
+            self.assertIsInstance(node.value, ast.Name, where)
+            self.assertIsNone(node.format_spec, where)
+        elif isinstance(node, ast.ExceptHandler):
+            self.need_handler(node, where)
+
+    def need_handler(self, node, where):
+        """Errors of Python's own need more care than this sees, so none of them is taken but these."""
+        taken = node.type.elts if isinstance(node.type, ast.Tuple) else [node.type]
+        for kind in taken:
+            self.assertIn(kind.id, class_names() | {"KeyError", "ZeroDivisionError", "StopIteration"}, where)
 
     def test_functions_and_classes(self):
         for name, node in nodes():
@@ -187,6 +280,32 @@ class Names(unittest.TestCase):
         for name in bound_names() - DUNDERS - methods:
             self.assertFalse(hasattr(builtins, name), name)
 
+    def test_no_local_is_called_like_a_class_or_an_import_of_its_file(self):
+        for name, tree in trees():
+            taken = {node.name for node in tree.body if isinstance(node, (ast.ClassDef, ast.FunctionDef))}
+            for node in tree.body:
+                if isinstance(node, ast.ImportFrom):
+                    taken.update(alias.name for alias in node.names)
+            for node in ast.walk(tree):
+                if isinstance(node, ast.arg):
+                    self.assertNotIn(node.arg, taken, name)
+                if isinstance(node, ast.Name) and isinstance(node.ctx, ast.Store):
+                    self.assertNotIn(node.id, taken, (name, node.lineno))
+
+    def test_methods_and_values_of_objects(self):
+        self.assertEqual(own_methods() & own_values(), set())
+        for name in own_methods() - DUNDERS:
+            self.assertTrue(name not in OF_PYTHONS_VALUES or name in METHODS | {"add", "discard"}, name)
+        for name in own_values():
+            self.assertTrue(name not in OF_PYTHONS_VALUES or name in VALUES_ALLOWED, name)
+            self.assertNotIn(name, {"args", "sort", "format"})
+
+    def test_values_are_given_through_a_local_name(self):
+        for name, node in nodes():
+            if isinstance(node, ast.Attribute) and isinstance(node.ctx, ast.Store):
+                self.assertIsInstance(node.value, ast.Name, (name, node.lineno))
+                self.assertNotIn(node.value.id, class_names(), (name, node.lineno))
+
     def test_names_that_are_read(self):
         known = bound_names() | OWN_NAMES
         for name, node in nodes():
@@ -200,6 +319,99 @@ class Names(unittest.TestCase):
                 self.assertNotIn(node.attr, NAMES_OUT, (name, node.lineno))
             if isinstance(node, ast.Call) and isinstance(node.func, ast.Attribute):
                 self.assertIn(node.func.attr, known, (name, node.lineno))
+
+
+class Uses(unittest.TestCase):
+    def test_classes_are_called_or_stand_where_a_class_may(self):
+        for name, parent, child in with_parents():
+            if isinstance(child, ast.Name) and child.id in class_names() and isinstance(child.ctx, ast.Load):
+                where = (name, child.lineno)
+                self.assertIsInstance(parent, (ast.Call, ast.ClassDef, ast.ExceptHandler, ast.Raise, ast.Tuple), where)
+                if isinstance(parent, ast.Call) and parent.func is not child:
+                    self.assertEqual((parent.func.id, parent.args[1]), ("isinstance", child), where)
+
+    def test_raise_makes_its_error_on_the_spot(self):
+        for name, node in nodes():
+            if isinstance(node, ast.Raise):
+                self.assertIsInstance(node.exc, ast.Call, (name, node.lineno))
+                self.assertIn(node.exc.func.id, class_names(), (name, node.lineno))
+
+    def test_walked_on_the_spot(self):
+        for name, parent, child in with_parents():
+            if not isinstance(child, ast.Call):
+                continue
+            walks = isinstance(child.func, ast.Name) and child.func.id in WALKED
+            views = isinstance(child.func, ast.Attribute) and child.func.attr in VIEWS
+            if walks or views:
+                where = (name, child.lineno)
+                if isinstance(parent, ast.Call) and isinstance(parent.func, ast.Attribute):
+                    self.assertEqual(parent.func.attr, "join", where)
+                    self.assertIsInstance(parent.func.value, ast.Constant, where)
+                elif isinstance(parent, ast.Call):
+                    self.assertIn(parent.func.id, WALKERS, where)
+                else:
+                    self.assertIsInstance(parent, (ast.For, ast.comprehension), where)
+
+    def test_sets_stand_on_the_spot(self):
+        self.assertEqual([name for name, node in nodes() if isinstance(node, ast.Set)], [])
+        for name, parent, child in with_parents():
+            if isinstance(child, ast.Call) and isinstance(child.func, ast.Name) and child.func.id in ("set", "frozenset"):
+                self.assertTrue(isinstance(parent, ast.Compare) or isinstance(parent, ast.Call)
+                                and isinstance(parent.func, ast.Name) and parent.func.id in ("sorted", "len"), name)
+
+    def test_keywords(self):
+        for name, node in nodes():
+            if isinstance(node, ast.Call) and node.keywords:
+                self.assertIsInstance(node.func, ast.Name, (name, node.lineno))
+                for keyword in node.keywords:
+                    self.assertIn(keyword.arg, KEYWORDS.get(node.func.id, set()), (name, node.lineno))
+
+    def test_pythons_own_are_called_and_not_kept(self):
+        for name, parent, child in with_parents():
+            if isinstance(child, ast.Name) and child.id in OWN_NAMES and child.id not in class_names():
+                where = (name, child.lineno)
+                if isinstance(parent, ast.Call):
+                    if parent.func is not child:
+                        self.assertEqual(parent.func.id, "isinstance", where)
+                else:
+                    self.assertIsInstance(parent, (ast.keyword, ast.ClassDef, ast.ExceptHandler, ast.Tuple), where)
+
+    def test_isinstance_of_plain_kinds(self):
+        known = {"int", "str", "bool", "list", "tuple", "dict"} | class_names()
+        for name, node in calls_of("isinstance"):
+            kinds = node.args[1].elts if isinstance(node.args[1], ast.Tuple) else [node.args[1]]
+            self.assertTrue(all(kind.id in known for kind in kinds), (name, node.lineno))
+
+    def test_methods_are_called_where_they_stand(self):
+        methods = own_methods() | METHODS
+        for name, parent, child in with_parents():
+            if isinstance(child, ast.Attribute) and child.attr in methods - own_values():
+                where = (name, child.lineno)
+                self.assertTrue(isinstance(parent, ast.Call) and parent.func is child, where)
+
+    def test_what_is_walked_is_not_changed(self):
+        changers = {"append", "clear", "extend", "insert", "pop", "remove", "reverse", "setdefault", "update"}
+        for name, node in nodes():
+            if not isinstance(node, ast.For):
+                continue
+            walked = {ast.dump(part) for part in ast.walk(node.iter) if isinstance(part, (ast.Name, ast.Attribute))}
+            for part in [inner for row in node.body for inner in ast.walk(row)]:
+                where = (name, node.lineno)
+                if isinstance(part, ast.Call) and isinstance(part.func, ast.Attribute) and part.func.attr in changers:
+                    self.assertNotIn(ast.dump(part.func.value), walked, where)
+                if isinstance(part, ast.Subscript) and isinstance(part.ctx, ast.Store):
+                    self.assertNotIn(ast.dump(part.value), walked, where)
+
+    def test_what_stands_at_the_top_is_only_read(self):
+        for name, tree in trees():
+            tops = {node.targets[0].id for node in tree.body if isinstance(node, ast.Assign)
+                    and isinstance(node.value, (ast.List, ast.Dict))}
+            for node in ast.walk(tree):
+                for child in ast.iter_child_nodes(node):
+                    if isinstance(child, ast.Name) and child.id in tops and isinstance(child.ctx, ast.Load):
+                        where = (name, child.lineno)
+                        self.assertIsInstance(node, (ast.Subscript, ast.Compare, ast.For, ast.comprehension), where)
+                        self.assertIsInstance(getattr(node, "ctx", ast.Load()), ast.Load, where)
 
 
 if __name__ == "__main__":

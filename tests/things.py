@@ -37,3 +37,24 @@ def short(thing):
         return repr(thing)[:200]
     except ValueError:
         return "(too long to show)"
+
+
+def with_faults(good, *faults):
+    """The good arguments, with those of each fault (a dict by places) in their stead."""
+    handed = list(good)
+    for fault in faults:
+        for place, thing in fault.items():
+            handed[place] = thing
+    return handed
+
+
+def need_order(case, call, good, faults):
+    """Each fault is refused by its name, and of two at once, where they can be, the one that is told first.
+
+    Faults are pairs of a refusal's name and a dict of wrong arguments by their places, in the document's order.
+    """
+    for at, (name, fault) in enumerate(faults):
+        need_refusal(case, name, call, *with_faults(good, fault))
+        for later_name, later in faults[at + 1:]:
+            if later_name != name and not set(fault) & set(later):
+                need_refusal(case, name, call, *with_faults(good, fault, later))
