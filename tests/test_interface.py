@@ -22,6 +22,14 @@ FUNCTIONS = {
         "chain": ["rates", "one", "other", "day"], "rate": ["rates", "one", "other", "day"],
         "converted": ["rates", "amount", "one", "other", "day"],
     },
+    "evenhall.bookings": {
+        "need_form": ["rows"], "need_rows": ["chart", "day", "rows"], "turned": ["rows"], "sums_of": ["rows"],
+    },
+    "evenhall.deeds": {
+        "book": ["chart", "gate", "journal", "day", "note", "rows"],
+        "undo": ["chart", "gate", "journal", "number", "day", "note"],
+    },
+    "evenhall.statements": {"statement": ["chart", "journal", "path", "currency", "first", "last"]},
 }
 
 CLASSES = {
@@ -32,6 +40,17 @@ CLASSES = {
     }},
     "evenhall.rates": {"Rates": {
         "quote": ["day", "one", "p", "other", "q"], "newest": ["one", "other", "day"], "currencies": [], "quotes": [],
+    }},
+    "evenhall.journal": {
+        "Gate": {"closed": [], "lets": ["day"], "shut": ["month"]},
+        "Journal": {
+            "put": ["day", "note", "rows", "undoes"], "many": [], "booking": ["number"], "every": [],
+            "undone_by": ["number"],
+        },
+    },
+    "evenhall.sums": {"Sums": {
+        "put": ["booking"], "own": ["path", "currency", "first", "last"], "standing": ["path", "currency", "month"],
+        "currencies": ["path"],
     }},
 }
 

@@ -1,6 +1,8 @@
 """What several tests share: things of other kinds, and the refusals of the document."""
 
 import evenhall.errors as errors
+from evenhall.chart import Chart
+from evenhall.journal import Journal
 
 REFUSALS = (
     "BadName", "BadNote", "BadDay", "BadMonth", "BadCount", "BadAmount", "BadCurrency", "BadShare", "BadPath",
@@ -58,3 +60,25 @@ def need_order(case, call, good, faults):
         for later_name, later in faults[at + 1:]:
             if later_name != name and not set(fault) & set(later):
                 need_refusal(case, name, call, *with_faults(good, fault, later))
+
+
+def hall(*accounts):
+    """A chart with a top of each kind, called like it; accounts are tuples of a path, a currency (or None) and a day."""
+    chart = Chart()
+    for kind in ("have", "owe", "own", "gain", "cost"):
+        chart.add_top(kind, kind)
+    for account in accounts:
+        chart.add(*account)
+    return chart
+
+
+def journal_of(*bookings):
+    """A journal of tuples: a day, then rows."""
+    journal = Journal()
+    for day, *rows in bookings:
+        journal.put(day, "", rows, None)
+    return journal
+
+
+def chart_picture(chart):
+    return [(path, chart.kind_of(path), chart.currency_of(path), chart.span_of(path)) for path in chart.accounts()]
