@@ -27,22 +27,6 @@ def need_account(chart, day, path, currency):
         raise BadCurrency("the account holds another currency")
 
 
-def need_even(rows):
-    together = {}
-    for path, currency, amount in rows:
-        together[currency] = together.get(currency, 0) + amount
-    for currency in sorted(together):
-        if together[currency] != 0:
-            raise Uneven(currency)
-
-
-def need_rows(chart, day, rows):
-    need_form(rows)
-    for path, currency, amount in rows:
-        need_account(chart, day, path, currency)
-    need_even(rows)
-
-
 def turned(rows):
     return tuple([(path, currency, -amount) for path, currency, amount in rows])
 
@@ -53,3 +37,17 @@ def sums_of(rows):
         together[(path, currency)] = together.get((path, currency), 0) + amount
     return [(path, currency, together[(path, currency)]) for path, currency in sorted(together)
             if together[(path, currency)] != 0]
+
+
+def need_even(rows):
+    # All rows as of one path: what is left then, rising, are the currencies that don't come to nought.
+    uneven = sums_of([("", row[1], row[2]) for row in rows])
+    if len(uneven) > 0:
+        raise Uneven(uneven[0][1])
+
+
+def need_rows(chart, day, rows):
+    need_form(rows)
+    for path, currency, amount in rows:
+        need_account(chart, day, path, currency)
+    need_even(rows)

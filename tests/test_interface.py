@@ -30,6 +30,15 @@ FUNCTIONS = {
         "undo": ["chart", "gate", "journal", "number", "day", "note"],
     },
     "evenhall.statements": {"statement": ["chart", "journal", "path", "currency", "first", "last"]},
+    "evenhall.reports": {
+        "report": ["chart", "journal", "first", "last"], "balances": ["chart", "journal", "day"],
+    },
+    "evenhall.views": {"valued": ["chart", "journal", "rates", "currency", "day"]},
+    "evenhall.seals": {"seal": ["chart", "journal", "month"], "holds": ["chart", "journal", "told"]},
+    "evenhall.closing": {
+        "carry_rows": ["chart", "journal", "path", "year"],
+        "close": ["chart", "gate", "journal", "seals", "month", "path"],
+    },
 }
 
 CLASSES = {
@@ -52,6 +61,7 @@ CLASSES = {
         "put": ["booking"], "own": ["path", "currency", "first", "last"], "standing": ["path", "currency", "month"],
         "currencies": ["path"],
     }},
+    "evenhall.seals": {"Seals": {"put": ["told"], "every": []}},
 }
 
 
