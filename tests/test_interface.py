@@ -39,6 +39,12 @@ FUNCTIONS = {
         "carry_rows": ["chart", "journal", "path", "year"],
         "close": ["chart", "gate", "journal", "seals", "month", "path"],
     },
+    "evenhall.watch": {
+        "done_by": ["budgets", "journal", "name", "month"], "left": ["budgets", "journal", "name", "month"],
+        "over": ["budgets", "journal", "month"],
+    },
+    "evenhall.running": {"run": ["chart", "gate", "journal", "standing", "until"]},
+    "evenhall.orders": {"order_of": ["line"], "line_of": ["order"]},
 }
 
 CLASSES = {
@@ -62,6 +68,14 @@ CLASSES = {
         "currencies": ["path"],
     }},
     "evenhall.seals": {"Seals": {"put": ["told"], "every": []}},
+    "evenhall.budgets": {"Budgets": {
+        "put": ["name", "path", "currency", "first", "last", "total", "weights"], "drop": ["name"], "names": [],
+        "terms": ["name"], "planned": ["name", "month"], "planned_by": ["name", "month"],
+    }},
+    "evenhall.standing": {"Standing": {
+        "put": ["name", "first", "every", "times", "note", "rows"], "drop": ["name"], "names": [], "terms": ["name"],
+        "done": ["name"], "step": ["name"], "days": ["name", "until"],
+    }},
 }
 
 
