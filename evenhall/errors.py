@@ -1,4 +1,4 @@
-"""The refusals: one class for each, all straight under HouseError."""
+"""The refusals: one class for each, all straight under HouseError, with the words by which a house answers it."""
 
 
 class HouseError(ValueError):
@@ -6,101 +6,128 @@ class HouseError(ValueError):
 
 
 class BadName(HouseError):
-    pass
+    def small_words(self):
+        return "bad name"
 
 
 class BadNote(HouseError):
-    pass
+    def small_words(self):
+        return "bad note"
 
 
 class BadDay(HouseError):
-    pass
+    def small_words(self):
+        return "bad day"
 
 
 class BadMonth(HouseError):
-    pass
+    def small_words(self):
+        return "bad month"
 
 
 class BadCount(HouseError):
-    pass
+    def small_words(self):
+        return "bad count"
 
 
 class BadAmount(HouseError):
-    pass
+    def small_words(self):
+        return "bad amount"
 
 
 class BadCurrency(HouseError):
-    pass
+    def small_words(self):
+        return "bad currency"
 
 
 class BadShare(HouseError):
-    pass
+    def small_words(self):
+        return "bad share"
 
 
 class BadPath(HouseError):
-    pass
+    def small_words(self):
+        return "bad path"
 
 
 class BadKind(HouseError):
-    pass
+    def small_words(self):
+        return "bad kind"
 
 
 class NoAccount(HouseError):
-    pass
+    def small_words(self):
+        return "no account"
 
 
 class Twice(HouseError):
-    pass
+    def small_words(self):
+        return "twice"
 
 
 class NotOpen(HouseError):
-    pass
+    def small_words(self):
+        return "not open"
 
 
 class HasBelow(HouseError):
-    pass
+    def small_words(self):
+        return "has below"
 
 
 class BadRate(HouseError):
-    pass
+    def small_words(self):
+        return "bad rate"
 
 
 class NoRate(HouseError):
-    pass
+    def small_words(self):
+        return "no rate"
 
 
 class BadRow(HouseError):
-    pass
+    def small_words(self):
+        return "bad row"
 
 
 class Uneven(HouseError):
     def __init__(self, currency):
         self.currency = currency
 
+    def small_words(self):
+        return "uneven " + self.currency
+
 
 class NoBooking(HouseError):
-    pass
+    def small_words(self):
+        return "no booking"
 
 
 class Undone(HouseError):
-    pass
+    def small_words(self):
+        return "undone"
 
 
 class Closed(HouseError):
-    pass
+    def small_words(self):
+        return "closed"
 
 
 class NotNext(HouseError):
-    pass
+    def small_words(self):
+        return "not next"
 
 
 class NoBudget(HouseError):
-    pass
+    def small_words(self):
+        return "no budget"
 
 
 class NoOrder(HouseError):
-    pass
+    def small_words(self):
+        return "no order"
 
 
 class BadOrder(HouseError):
-    pass
+    def small_words(self):
+        return "bad order"

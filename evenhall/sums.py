@@ -25,3 +25,11 @@ class Sums:
 
     def currencies(self, path):
         return sorted([place[1] for place in self.by_place if place[0] == path])
+
+    def all_sums(self):
+        told = []
+        for place in sorted(self.by_place):
+            by_month = self.by_place[place]
+            # A month that comes to nought tells no more than one without rows.
+            told.append((place, [(month, by_month[month]) for month in sorted(by_month) if by_month[month] != 0]))
+        return told

@@ -45,6 +45,10 @@ FUNCTIONS = {
     },
     "evenhall.running": {"run": ["chart", "gate", "journal", "standing", "until"]},
     "evenhall.orders": {"order_of": ["line"], "line_of": ["order"]},
+    "evenhall.doing": {"carry_out": ["house", "order"], "is_deed": ["order"]},
+    "evenhall.asking": {"answer_of": ["house", "order"]},
+    "evenhall.shell": {"answered": ["house", "line"], "played": ["lines"]},
+    "evenhall.keeps": {"house_lines": ["house"], "house_of": ["lines"], "same_house": ["one", "other"]},
 }
 
 CLASSES = {
@@ -76,6 +80,7 @@ CLASSES = {
         "put": ["name", "first", "every", "times", "note", "rows"], "drop": ["name"], "names": [], "terms": ["name"],
         "done": ["name"], "step": ["name"], "days": ["name", "until"],
     }},
+    "evenhall.house": {"House": {}},
 }
 
 
