@@ -1,6 +1,6 @@
 """Rows of bookings: their form, what they ask of the chart, and what they have together."""
 
-from evenhall.errors import BadCurrency, BadRow, NoAccount, NotOpen, Uneven
+from evenhall.errors import BadCurrency, BadRow, NotOpen, Uneven
 from evenhall.money import is_amount, is_currency
 
 
@@ -19,8 +19,7 @@ def need_form(rows):
 
 
 def need_account(chart, day, path, currency):
-    if not chart.has(path):
-        raise NoAccount("there is no such account")
+    # What is no account the chart refuses itself.
     if not chart.is_open(path, day):
         raise NotOpen("the account isn't open on the day")
     if chart.currency_of(path) is not None and chart.currency_of(path) != currency:

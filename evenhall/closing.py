@@ -2,7 +2,7 @@
 
 from evenhall.bookings import sums_of, turned
 from evenhall.days import last_day
-from evenhall.errors import BadCurrency, BadKind, NoAccount, NotOpen
+from evenhall.errors import BadCurrency, BadKind, NotOpen
 from evenhall.reports import balances
 from evenhall.seals import seal
 
@@ -14,8 +14,7 @@ def carry_rows(chart, journal, path, year):
 
 
 def need_keeper(chart, path, day):
-    if not chart.has(path):
-        raise NoAccount("there is no account to carry to")
+    # What is no account the chart refuses itself.
     if chart.kind_of(path) != "own":
         raise BadKind("what is carried goes to an account of the kind own")
     if not chart.is_open(path, day):

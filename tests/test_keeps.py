@@ -187,6 +187,16 @@ class SameHouse(unittest.TestCase):
         one.sums.put((0, 0, "", (("gain", "CHF", 1), ("gain", "CHF", -1)), None))
         self.assertIs(same_house(one, other), False)
 
+    def test_the_order_in_which_sums_came(self):
+        bookings = [(0, 0, "", (("owe", "EUR", 1),), None), (1, 40, "", (("own", "EUR", 2), ("owe", "EUR", 1)), None)]
+        one = house_of(START)
+        other = house_of(START)
+        for booking in bookings:
+            one.sums.put(booking)
+        for booking in reversed(bookings):
+            other.sums.put(booking)
+        self.assertIs(same_house(one, other), True)
+
     def test_rows_of_orders_that_alone_differ(self):
         self.alike(["top a have", "top b own"], ["top b own", "top a have"])
         self.alike(START + ["run 2024-02-29"], START)

@@ -150,6 +150,13 @@ class NoOrders(unittest.TestCase):
             if len(words) > 1:
                 self.refused(" ".join(words[:-1]) + bar + note, " ".join(words[:1] + words[2:]) + bar + note)
 
+    def test_a_word_of_no_sign(self):
+        for line, order in ORDERS:
+            head, bar, note = line.partition(" |")
+            words = head.split(" ")
+            for at in range(len(words)):
+                self.refused(" ".join(words[:at] + [""] + words[at + 1:]) + bar + note)
+
     def test_line_feeds_and_tabs(self):
         for line, order in ORDERS:
             for sign in "\n\t":

@@ -62,6 +62,11 @@ class PathOf(unittest.TestCase):
                 need_refusal(self, "BadPath", path_of, names)
 
 
+    def test_no_lists(self):
+        for thing in (None, 5, "a", "", ("a", "b"), {"a": 1}, {"a"}):
+            need_refusal(self, "BadPath", path_of, thing)
+
+
 class Above(unittest.TestCase):
     def test_the_top_comes_first(self):
         self.assertEqual(above("a"), [])
